@@ -150,6 +150,9 @@ func TestLetsToldTheirTypes(t *testing.T) {
 		was := check.Of(p)
 		for _, m := range was.Modules {
 			u, _ := p.Unit(m.Name)
+			if u.Bad != api.OK {
+				continue
+			}
 			lets := tree.All(u.Tree, api.Let)
 			lets = slices.DeleteFunc(lets, func(n api.Node) bool { return n.Kids[0].Kind != api.None })
 			for _, n := range lets {

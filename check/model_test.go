@@ -210,9 +210,12 @@ func modelOf(p *project.Project) check.Checked {
 	m := &model{Project: p, diags: p.Diags()}
 	var out check.Checked
 	for _, name := range p.Names() {
-		if u, _ := p.Unit(name); u.Bad == api.OK {
-			out.Modules = append(out.Modules, m.module(u))
+		u, _ := p.Unit(name)
+		if u.Bad != api.OK {
+			out.Modules = append(out.Modules, check.Module{Name: name})
+			continue
 		}
+		out.Modules = append(out.Modules, m.module(u))
 	}
 	out.Diags = sorted(m.diags)
 	return out
@@ -220,9 +223,12 @@ func modelOf(p *project.Project) check.Checked {
 
 // alike says whether the same is known; nil and empty lists are one.
 func alike(a, b check.Checked) bool {
-	return slices.Equal(a.Diags, b.Diags) && slices.EqualFunc(a.Modules, b.Modules, func(a, b check.Module) bool {
-		return a.Name == b.Name && slices.EqualFunc(a.Types, b.Types, term.Same) && slices.EqualFunc(a.Exprs, b.Exprs, sameTyped)
-	})
+	return slices.Equal(a.Diags, b.Diags) && slices.EqualFunc(a.Modules, b.Modules, known)
+}
+
+// known says whether the same is known of two modules.
+func known(a, b check.Module) bool {
+	return a.Name == b.Name && slices.EqualFunc(a.Types, b.Types, term.Same) && slices.EqualFunc(a.Exprs, b.Exprs, sameTyped)
 }
 
 func sameTyped(a, b check.Typed) bool {

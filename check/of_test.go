@@ -50,12 +50,13 @@ func TestImports(t *testing.T) {
 	if !slices.Equal(got.Diags, wrong) {
 		t.Error(got.Diags, wrong)
 	}
-	if l := []string{got.Modules[0].Name, got.Modules[1].Name, got.Modules[2].Name, got.Modules[3].Name}; len(got.Modules) != 4 || !slices.Equal(l, []string{"a", "b", "c", "main"}) {
+	if l := names(got); !slices.Equal(l, []string{"a", "b", "bad", "c", "main"}) {
 		t.Fatal(l)
 	}
 	for name, want := range map[string]string{
 		"a":    "g: fn(str): {c: int}; h: fn(int): int; h: fn(): dyn; a: str; a: int",
 		"b":    "g: fn(str): {c: int}; h: fn(): dyn; f: fn(fn(str): {c: int}): int; k: fn(): dyn; a: fn(str): {c: int}",
+		"bad":  "",
 		"c":    "",
 		"main": "f: fn(fn(str): {c: int}): int; g: fn(str): {c: int}; x: dyn; h: dyn; y: dyn; main: fn(): dyn; r: int; s: dyn; u: dyn; v: dyn",
 	} {
@@ -64,10 +65,12 @@ func TestImports(t *testing.T) {
 			t.Errorf("%s: %s, %v", name, l, ok)
 		}
 	}
-	if m, ok := got.Module("c"); !ok || len(m.Exprs) != 0 || len(m.Types) != 0 {
-		t.Error(m, ok)
+	for _, name := range []string{"bad", "c"} {
+		if m, ok := got.Module(name); !ok || !known(m, check.Module{Name: name}) {
+			t.Error(m, ok)
+		}
 	}
-	for _, name := range []string{"bad", "", "d", "mai", "mains", "A"} {
+	for _, name := range []string{"", "ba", "bads", "d", "mai", "mains", "A"} {
 		if m, ok := got.Module(name); ok || !reflect.DeepEqual(m, check.Module{}) {
 			t.Errorf("%q: %v", name, m)
 		}
@@ -107,10 +110,6 @@ func TestNothing(t *testing.T) {
 		t.Error(got)
 	}
 	if got := check.Of(&project.Project{}); len(got.Modules) != 0 || !slices.Equal(got.Diags, []api.Diag{diag("main", 0, api.ErrMain)}) {
-		t.Error(got)
-	}
-	p := load(t, api.Module{Name: "main", Text: "def main( {}"})
-	if got := check.Of(p); len(got.Modules) != 0 || !slices.Equal(got.Diags, p.Diags()) || len(got.Diags) != 2 {
 		t.Error(got)
 	}
 	if m, ok := (check.Checked{}).Module(""); ok || !reflect.DeepEqual(m, check.Module{}) {

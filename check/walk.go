@@ -17,13 +17,15 @@ type walker struct {
 	diags  []api.Diag
 }
 
-// walkers are of each module that was read one, which has the types of its defs.
+// walkers are of each module one, which has the types of its defs. One that wasn't read is a module all the same, of which nothing is known.
 func walkers(p *project.Project) []*walker {
 	var out []*walker
 	for _, name := range p.Names() {
-		if u, _ := p.Unit(name); u.Bad == api.OK {
-			out = append(out, newWalker(u))
+		u, _ := p.Unit(name)
+		if u.Bad != api.OK {
+			u = project.Unit{Name: name}
 		}
+		out = append(out, newWalker(u))
 	}
 	return out
 }
